@@ -1,0 +1,1 @@
+"""Switchrows: rows of words moved by stages of small switches."""

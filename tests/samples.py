@@ -1,6 +1,7 @@
 """Things that several tests hand in."""
 
 from itertools import permutations, product
+from random import Random
 
 
 def nested(depth):
@@ -72,3 +73,75 @@ def all_orders(many):
 def constant_setting(net, way):
     """The setting with the same way at each switch."""
     return tuple(tuple(way for _ in stage) for stage in net[1])
+
+
+def turned_order(many, by):
+    """Each thing goes so many wires on, the last ones to the first."""
+    return tuple((wire + by) % many for wire in range(many))
+
+
+def mates_kept(many, seed):
+    """An order in which things of mates go to mates, so that it has as many rings as can be."""
+    chance = Random(seed)
+    pairs = list(range(many // 2))
+    chance.shuffle(pairs)
+    order = []
+    for pair in pairs:
+        turn = chance.randrange(2)
+        order += [2 * pair + turn, 2 * pair + 1 - turn]
+    return tuple(order)
+
+
+def shuffled_orders(many, how_many):
+    """So many orders, the same each time."""
+    chance = Random(many)
+    return [tuple(chance.sample(range(many), many)) for _ in range(how_many)]
+
+
+def sample_orders(many, how_many):
+    """Orders in place, turned, from the last to the first, with many rings, and shuffled ones."""
+    own = tuple(range(many))
+    orders = [own, own[::-1], turned_order(many, 1), turned_order(many, many - 1), turned_order(many, many // 2)]
+    if many % 2 == 0:
+        orders += [mates_kept(many, seed) for seed in range(3)]
+    return orders + shuffled_orders(many, how_many)
+
+
+def with_idle(order, seed):
+    """A part order made of an order, some of its wires idle."""
+    chance = Random(seed)
+    share = chance.random()
+    return tuple(None if chance.random() < share else place for place in order)
+
+
+def sample_parts(many, how_many):
+    """Part orders with none, all, one, all but one, and some wires idle."""
+    own = tuple(range(many))
+    parts = [own, (None,) * many, (None,) + own[1:], own[:-1] + (None,)]
+    parts += [(None,) * (many - 1) + (0,), (many - 1,) + (None,) * (many - 1)]
+    orders = sample_orders(many, how_many)
+    return parts + orders[:8] + [with_idle(order, seed) for seed, order in enumerate(orders)]
+
+
+def all_parts(many):
+    """Every part order of so many wires."""
+    parts = product((None, *range(many)), repeat=many)
+    return [part for part in parts if len({p for p in part if p is not None}) == many - part.count(None)]
+
+
+def changed(thing):
+    """Things made of a thing by one change, at each depth."""
+    if type(thing) is int:
+        yield from (1 - thing, 2, -1, thing == 1, str(thing), None, (thing,), [thing])
+    elif type(thing) is str:
+        yield from ("", "One", "halve", thing + " ", thing[:-1], None, 0, True, (thing,), [thing])
+    elif type(thing) is tuple:
+        yield list(thing)
+        yield dict(enumerate(thing))
+        yield thing + (0,)
+        yield thing + thing[-1:]
+        yield from (None, 0, True, "", repr(thing), (thing,), ())
+        for at, part in enumerate(thing):
+            yield thing[:at] + thing[at + 1 :]
+            for other in changed(part):
+                yield thing[:at] + (other,) + thing[at + 1 :]

@@ -1,25 +1,15 @@
 """Points 4 and 5: what nets, settings, part orders and orders are."""
 
-import copy
 import unittest
 
 from switchrows.nets import is_net, is_order, is_part, is_setting
+from tests.asking import AskingTest
 from tests.samples import EMPTY_STAGES, MIXED, ONE_SWITCH, ONE_WIRE, OTHER_THINGS, SMALL_NETS, THREE
 from tests.samples import all_orders, all_settings, nested
 
 HUGE = 10**40 - 1
 MANY_WIRES = (64, (tuple((a, a + 1) for a in range(0, 64, 2)), tuple((a, a + 32) for a in range(32))))
 MANY_STAGES = (3, (((0, 1),), ((1, 2),)) * 30)
-
-
-class AskingTest(unittest.TestCase):
-    """True and False alone are told, and each is told twice, of a thing that stays as it was."""
-
-    def ask(self, expected, asked, *args):
-        before = copy.deepcopy(args)
-        self.assertIs(asked(*args), expected, args)
-        self.assertIs(asked(*args), expected, args)
-        self.assertEqual(repr(args), repr(before))
 
 
 class NetTest(AskingTest):

@@ -70,6 +70,11 @@ def all_orders(many):
     return list(permutations(range(many)))
 
 
+def switches_of(net):
+    """Each switch of a net by its stage and its number there, rising."""
+    return [(at, number) for at, stage in enumerate(net[1]) for number in range(len(stage))]
+
+
 def constant_setting(net, way):
     """The setting with the same way at each switch."""
     return tuple(tuple(way for _ in stage) for stage in net[1])

@@ -11,6 +11,13 @@ def is_wire(many, thing):
     return is_number(thing) and 0 <= thing < many
 
 
+def is_rising_wires(many, thing):
+    """Whether a thing is a tuple of wires of so many that rises, none twice."""
+    if not isinstance(thing, tuple) or not all(is_wire(many, wire) for wire in thing):
+        return False
+    return all(one < other for one, other in zip(thing, thing[1:]))
+
+
 def is_switch(many, thing):
     """Whether a thing is a switch between two of so many wires, the lesser one first."""
     if not isinstance(thing, tuple) or len(thing) != 2:

@@ -1,6 +1,6 @@
 """Things that several tests hand in."""
 
-from itertools import permutations, product
+from itertools import combinations, permutations, product
 from random import Random
 
 
@@ -73,6 +73,29 @@ def all_orders(many):
 def switches_of(net):
     """Each switch of a net by its stage and its number there, rising."""
     return [(at, number) for at, stage in enumerate(net[1]) for number in range(len(stage))]
+
+
+def all_stuck(net):
+    """All stuck switches of a small net: none, some and all, each way."""
+    found = []
+    places = switches_of(net)
+    for many in range(len(places) + 1):
+        for some in combinations(places, many):
+            for ways in product((0, 1), repeat=many):
+                found.append(tuple((*place, way) for place, way in zip(some, ways)))
+    return found
+
+
+def chance_stuck(net, share, chance):
+    """Stuck switches of a net, about so many of a hundred."""
+    return tuple((*place, chance.randrange(2)) for place in switches_of(net) if chance.randrange(100) < share)
+
+
+def all_but(net, free, chance):
+    """All switches of a net stuck but so many, chosen by chance."""
+    places = switches_of(net)
+    left = chance.sample(places, free)
+    return tuple((*place, chance.randrange(2)) for place in places if place not in left)
 
 
 def constant_setting(net, way):

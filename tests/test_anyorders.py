@@ -13,7 +13,7 @@ from switchrows.walking import order_led
 from switchrows.wholes import many_switches, spared, whole
 from tests.asking import AskingTest
 from tests.samples import EMPTY_STAGES, MIXED, ONE_SWITCH, ONE_WIRE, SMALL_NETS, THREE
-from tests.samples import all_orders, all_settings, sample_orders, switches_of, turned_order
+from tests.samples import all_but, all_orders, all_settings, sample_orders, switches_of, turned_order
 
 # Ten and eleven switches of three wires.
 TEN = (3, (((0, 1),), ((1, 2),)) * 5)
@@ -27,13 +27,6 @@ def slow_orders(net, stuck):
         if all(setting[stage][number] == way for stage, number, way in stuck):
             led.add(order_led(net, setting))
     return tuple(sorted(led))
-
-
-def all_but(net, free, chance):
-    """All switches of a net stuck but so many, chosen by chance."""
-    places = switches_of(net)
-    left = chance.sample(places, free)
-    return tuple((*place, chance.randrange(2)) for place in places if place not in left)
 
 
 class OrdersLedTest(AskingTest):

@@ -1,7 +1,6 @@
 """Points 29 and 30: stuck switches, settings that agree with them, and the stuck switches of a half."""
 
 import unittest
-from itertools import combinations, product
 from random import Random
 
 from switchrows.joining import behind, beside
@@ -10,23 +9,7 @@ from switchrows.stuck import agrees, is_stuck, stuck_of_half
 from switchrows.wholes import whole
 from tests.asking import AskingTest
 from tests.samples import EMPTY_STAGES, MIXED, ONE_SWITCH, ONE_WIRE, OTHER_THINGS, SMALL_NETS, THREE
-from tests.samples import all_settings, changed, sample_orders, switches_of
-
-
-def all_stuck(net):
-    """All stuck switches of a small net: none, some and all, each way."""
-    found = []
-    places = switches_of(net)
-    for many in range(len(places) + 1):
-        for some in combinations(places, many):
-            for ways in product((0, 1), repeat=many):
-                found.append(tuple((*place, way) for place, way in zip(some, ways)))
-    return found
-
-
-def chance_stuck(net, share, chance):
-    """Stuck switches of a net, about so many of a hundred."""
-    return tuple((*place, chance.randrange(2)) for place in switches_of(net) if chance.randrange(100) < share)
+from tests.samples import all_settings, all_stuck, chance_stuck, changed, sample_orders, switches_of
 
 
 def slow_is_stuck(net, thing):

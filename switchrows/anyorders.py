@@ -2,6 +2,7 @@
 
 from switchrows.errors import TooMany
 from switchrows.orders import back_of
+from switchrows.stuck import told_ways
 from switchrows.wholes import many_switches
 
 MOST_FREE = 10
@@ -9,10 +10,15 @@ MOST_FREE = 10
 
 def orders_led(net, stuck):
     """All orders led by settings that agree with stuck switches, rising; or TooMany."""
+    refuse_many_free(net, stuck)
+    rows = rows_behind(net, told_ways(stuck))
+    return tuple(sorted({back_of(row) for row in rows}))
+
+
+def refuse_many_free(net, stuck):
+    """Refuses nets of which more than ten switches are not stuck."""
     if many_switches(net) - len(stuck) > MOST_FREE:
         raise TooMany("more than ten switches are not stuck")
-    rows = rows_behind(net, {(stage, number): way for stage, number, way in stuck})
-    return tuple(sorted({back_of(row) for row in rows}))
 
 
 def rows_behind(net, told):

@@ -89,7 +89,8 @@ def read_ways(stage, word):
 
 def read_way(sign):
     """The way that a sign stands for."""
-    if sign not in WAY_SIGNS:
+    # A text without signs, and both signs together, are in the signs, too.
+    if len(sign) != 1 or sign not in WAY_SIGNS:
         raise NoText("a switch is straight or crossed")
     return WAY_SIGNS.index(sign)
 

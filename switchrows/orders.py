@@ -1,4 +1,4 @@
-"""Orders turned back, put after one another, and odd ones."""
+"""Orders turned back, put after one another, odd ones, and all of them."""
 
 from switchrows.nets import is_order
 
@@ -36,3 +36,11 @@ def many_circles(order):
             seen[wire] = True
             wire = order[wire]
     return circles
+
+
+def every_order(many):
+    """All orders of so many wires, rising."""
+    orders = [()]
+    for wire in range(many):
+        orders = [order + (place,) for order in orders for place in range(many) if place not in order]
+    return orders

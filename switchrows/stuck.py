@@ -30,3 +30,15 @@ def stuck_of_half(m, stuck, s):
     """The stuck switches of the half s of the whole net of m."""
     return tuple((stage - 1, number // 2, way) for stage, number, way in stuck
                  if 1 <= stage <= 2 * m - 3 and number % 2 == s)
+
+
+def told_ways(stuck):
+    """For each stuck switch, by its stage and number, its way."""
+    return {(stage, number): way for stage, number, way in stuck}
+
+
+def one_more_told(told, switch, way):
+    """The ways of switches, that of one more among them."""
+    ways = {place: told[place] for place in told}
+    ways[switch] = way
+    return ways

@@ -1,11 +1,10 @@
 """Orders led by any net round its stuck switches, or a paper that none of its settings does."""
 
-from switchrows.anyorders import MOST_FREE, refuse_many_free
+from switchrows.anyorders import refuse_many_free
 from switchrows.errors import TooMany
 from switchrows.orders import every_order
 from switchrows.reaching import lost_wires
 from switchrows.stuck import one_more_told, told_ways
-from switchrows.wholes import many_switches
 
 MOST_WIRES_OF_ALL = 4
 
@@ -52,10 +51,11 @@ def setting_told(net, told):
 
 def all_or_lacks(net):
     """A setting for each order, rising, or the first order that is not led, and a paper; or TooMany."""
-    if net[0] > MOST_WIRES_OF_ALL or many_switches(net) > MOST_FREE:
-        raise TooMany("more than four wires, or more than ten switches")
+    if net[0] > MOST_WIRES_OF_ALL:
+        raise TooMany("more than four wires have too many orders to go through")
     settings = []
     for order in every_order(net[0]):
+        # A net of more than ten switches is refused here, at the first order.
         answer = led_any(net, (), order)
         if answer[0] == "none":
             return ("lacks", order, answer[1])
